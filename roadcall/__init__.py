@@ -1,0 +1,1 @@
+"""Roadcall: signs on roads that call everybody to one place."""
