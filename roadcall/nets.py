@@ -1,7 +1,7 @@
 """What nets, their places, signs and words are, and their refusals (points 4 and 5)."""
 
 from roadcall.errors import NoNet, NoPlace, NoSign, NoWord
-from roadcall.whole import is_whole
+from roadcall.whole import is_whole_below
 
 SIGNS = "abc"
 MOST_PLACES = 9
@@ -12,7 +12,7 @@ def is_row(thing, many, width):
     """Whether any thing is a row of `width` roads in a net of `many` places."""
     if not isinstance(thing, tuple) or len(thing) != width:
         return False
-    return all(is_whole(goal) and 0 <= goal < many for goal in thing)
+    return all(is_whole_below(goal, many) for goal in thing)
 
 
 def is_net(thing):
@@ -40,7 +40,7 @@ def signs_of(net):
 
 def is_place(net, thing):
     """Whether any thing is a place of a net."""
-    return is_whole(thing) and 0 <= thing < len(net)
+    return is_whole_below(thing, len(net))
 
 
 def need_place(net, thing):

@@ -7,6 +7,11 @@ def is_whole(thing):
     return isinstance(thing, int) and not isinstance(thing, bool)
 
 
+def is_whole_below(thing, many):
+    """Whether any thing is a whole number from 0 on, below many."""
+    return is_whole(thing) and 0 <= thing < many
+
+
 def common_divisor(one, other):
     """The greatest whole number that divides both, from 0 on; 0 where both are 0."""
     one, other = abs(one), abs(other)

@@ -36,6 +36,9 @@ class Errors(unittest.TestCase):
             raise errors.NoPaper(3)
         self.assertEqual(caught.exception.at, 3)
 
+    def test_the_value_is_set_on_each(self):
+        self.assertEqual(errors.NoPaper().at, 0)
+
     def test_two_no_papers_keep_their_own_values(self):
         one, other = errors.NoPaper(1), errors.NoPaper(2)
         self.assertEqual((one.at, other.at), (1, 2))

@@ -3,7 +3,7 @@
 import math
 import unittest
 
-from roadcall.whole import common_divisor, is_whole
+from roadcall.whole import common_divisor, is_whole, is_whole_below
 from things import LONG
 
 
@@ -15,6 +15,13 @@ class Whole(unittest.TestCase):
     def test_other_things_are_not(self):
         for thing in (True, False, None, "", "0", [], [0], (), (0,)):
             self.assertIs(is_whole(thing), False)
+
+    def test_below(self):
+        for many in range(4):
+            for thing in range(-2, 6):
+                self.assertIs(is_whole_below(thing, many), thing in range(many))
+        for thing in (True, False, None, "", "0", [], [0], (), (0,), LONG, -LONG):
+            self.assertIs(is_whole_below(thing, 9), False)
 
     def test_common_divisor(self):
         for one in range(-20, 21):

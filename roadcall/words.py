@@ -1,0 +1,49 @@
+"""What words do to sets and to all places (points 11 and 13)."""
+
+from roadcall.errors import NoSet
+from roadcall.nets import is_place, need_net, need_word
+from roadcall.ways import end_of
+
+
+def is_set(net, thing):
+    """Whether any thing is a set of places of a net."""
+    if not isinstance(thing, tuple) or len(thing) == 0:
+        return False
+    return all(is_place(net, place) for place in thing) and list(thing) == sorted(set(thing))
+
+
+def need_set(net, thing):
+    """Refuse what is no set of places of a net."""
+    if not is_set(net, thing):
+        raise NoSet("this is no set of places of the net")
+
+
+def image(net, places, word):
+    """The set of the places to which a word leads from a set."""
+    need_net(net)
+    need_set(net, places)
+    need_word(net, word)
+    return tuple(sorted({end_of(net, place, word) for place in places}))
+
+
+def map_of(net, word):
+    """The tuple of the places to which a word leads from each place."""
+    need_net(net)
+    need_word(net, word)
+    return tuple(end_of(net, place, word) for place in range(len(net)))
+
+
+def left(net, word):
+    """How many places a word leaves."""
+    return len(set(map_of(net, word)))
+
+
+def comes_round(net, word):
+    """A tuple (ahead, round): when the word, said again and again, comes round."""
+    once = map_of(net, word)
+    met = {}
+    said = tuple(range(len(net)))
+    while said not in met:
+        met[said] = len(met)
+        said = tuple(once[place] for place in said)
+    return met[said], len(met) - met[said]
