@@ -27,12 +27,14 @@ def exchanged(net, place, one, other):
 def row_exchanges(place, row, goal):
     """The exchanges at a place, as few as can be, that lead from its row to another order of it."""
     told = []
-    for at in range(len(row)):
-        if row[at] != goal[at]:
+    stands = row
+    for at in range(len(goal)):
+        if stands[at] != goal[at]:
             # A goal that stands right already must not be taken away, though it is alike.
-            spots = [spot for spot in range(at + 1, len(row)) if row[spot] == goal[at] and row[spot] != goal[spot]]
-            row = swapped(row, at, spots[0])
-            told.append((place, SIGNS[at], SIGNS[spots[0]]))
+            wrong = [spot for spot in range(at + 1, len(goal)) if stands[spot] != goal[spot]]
+            found = [spot for spot in wrong if stands[spot] == goal[at]]
+            stands = swapped(stands, at, found[0])
+            told.append((place, SIGNS[at], SIGNS[found[0]]))
     return told
 
 
