@@ -3,6 +3,9 @@
 from roadcall.errors import NoWhole
 from roadcall.nets import SIGNS, need_net, need_place, need_word
 
+# Nine places have as many sets, the empty one left out.
+MOST_SETS = 511
+
 
 def end_of(net, place, word):
     """The place to which a word leads; for callers that have looked at all three."""
@@ -19,18 +22,27 @@ def led(net, place, word):
     return end_of(net, place, word)
 
 
-def first_words(net, start):
-    """A dict of the places to which words lead from start, with the first shortest word of each."""
+def first_met(start, width, step, most=MOST_SETS):
+    """A dict of all that is met from start on, each with its first shortest word, in their order.
+
+    `step(met, at)` is where the sign with the number `at` leads; what comes up beyond `most` may be left out.
+    """
     found = {start: ""}
     queue = [start]
-    # Places wait in the order of their words, so the first word that comes to a place is the one.
-    while queue:
-        place = queue.pop(0)
-        for sign, goal in zip(SIGNS, net[place]):
+    # What is met waits in the order of its words, so the first word that comes to a thing is the one.
+    while queue and len(found) <= most:
+        met = queue.pop(0)
+        for at in range(width):
+            goal = step(met, at)
             if goal not in found:
-                found[goal] = found[place] + sign
+                found[goal] = found[met] + SIGNS[at]
                 queue.append(goal)
     return found
+
+
+def first_words(net, start):
+    """A dict of the places to which words lead from start, with the first shortest word of each."""
+    return first_met(start, len(net[0]), lambda place, at: net[place][at])
 
 
 def way(net, start, goal):

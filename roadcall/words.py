@@ -2,7 +2,7 @@
 
 from roadcall.errors import NoSet
 from roadcall.nets import is_place, need_net, need_word
-from roadcall.ways import end_of
+from roadcall.ways import end_of, first_met
 
 
 def is_set(net, thing):
@@ -24,6 +24,19 @@ def image(net, places, word):
     need_set(net, places)
     need_word(net, word)
     return tuple(sorted({end_of(net, place, word) for place in places}))
+
+
+def images_met(net, places):
+    """A dict of all images of a set, each with the first word that leads there, in the order of these words."""
+    return first_met(places, len(net[0]), lambda met, at: tuple(sorted({net[place][at] for place in met})))
+
+
+def first_call(net, places):
+    """The first shortest word that calls a set together, or None; for callers that have looked at both."""
+    for met, word in images_met(net, places).items():
+        if len(met) == 1:
+            return word
+    return None
 
 
 def map_of(net, word):

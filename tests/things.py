@@ -1,5 +1,6 @@
 """Nets, things of all kinds, and plain ways to check answers, for all tests."""
 
+import copy
 import itertools
 import random
 
@@ -29,6 +30,15 @@ NINE = tuple(((p + 1) % 9, 0 if p else 1) for p in range(9))
 NINE3 = tuple(((p + 1) % 9, (p + 2) % 9, (p * p) % 9) for p in range(9))
 CERNY = ((1, 1), (1, 2), (2, 3), (3, 0))
 ROUND6 = ((1, 2), (3, 4), (4, 3), (5, 5), (5, 5), (0, 0))
+
+# The nets of two ways, from two places on, whose shortest words that call all places together are longest.
+LONG_CALLS = [tuple(((place + 1) % many, 1 if place == 0 else place) for place in range(many))
+              for many in range(2, 10)]
+
+# Nets that hang together and have no stable pair: all on rings, and with tails on several rings.
+PRISM = ((1, 2), (0, 3), (3, 0), (2, 1))
+NO_STABLE6 = ((2, 4), (0, 2), (3, 3), (5, 1), (3, 5), (0, 0))
+NO_STABLE9 = ((2, 3, 4), (0, 8, 0), (3, 3, 3), (5, 6, 7), (3, 2, 3), (6, 6, 6), (8, 0, 1), (6, 5, 6), (0, 0, 0))
 
 NO_NETS = OTHERS + [
     ((0, 0),) * 10, ((0, 0, 0),) * 10, ((0, 1), (1, 0, 0)), ((0, 1, 1), (1, 0)), ((0,),), ((0,), (1,)),
@@ -108,6 +118,95 @@ def walk(net, place, word):
     for sign in word:
         place = net[place]["abc".index(sign)]
     return place
+
+
+def plain_call(net, places, length):
+    """The first word of at most so many signs that leads all the places to one, by trial of all words."""
+    for word in words_up_to(net, length):
+        if len({walk(net, place, word) for place in places}) == 1:
+            return word
+    return None
+
+
+def call_table(net, size):
+    """By a table: how few signs call each set of at most so many places together, where any do."""
+    far = {frozenset([place]): 0 for place in range(len(net))}
+    sets = [frozenset(places) for many in range(2, size + 1)
+            for places in itertools.combinations(range(len(net)), many)]
+    grown = True
+    while grown:
+        grown = False
+        for places in sets:
+            behind = [far[goal] + 1 for goal in sign_images(net, places) if goal in far]
+            if behind and far.get(places, 10 ** 6) > min(behind):
+                far[places] = min(behind)
+                grown = True
+    return far
+
+
+def sign_images(net, places):
+    """Where each sign leads a set."""
+    return [frozenset(net[place][at] for place in places) for at in range(len(net[0]))]
+
+
+def table_call(net, far, places):
+    """The first shortest word that calls a set together by the table, or None."""
+    places = frozenset(places)
+    if places not in far:
+        return None
+    word = ""
+    while far[places]:
+        goals = sign_images(net, places)
+        at = min(at for at, goal in enumerate(goals) if far.get(goal, 10 ** 6) == far[places] - 1)
+        word += "abc"[at]
+        places = goals[at]
+    return word
+
+
+def pairs_of(net):
+    """All pairs of places, sorted."""
+    return list(itertools.combinations(range(len(net)), 2))
+
+
+def pairs_reached(net, pair):
+    """The pairs to which a pair is led, itself among them, as a set."""
+    found, old = {pair}, set()
+    while found != old:
+        old = set(found)
+        for one, other in old:
+            for goal, far in zip(net[one], net[other]):
+                if goal != far:
+                    found.add((min(goal, far), max(goal, far)))
+    return found
+
+
+def plain_stable(net):
+    """The stable pairs by their own words, sorted."""
+    far = call_table(net, 2)
+    return [pair for pair in pairs_of(net)
+            if all(frozenset(other) in far for other in pairs_reached(net, pair))]
+
+
+def spoil(thing):
+    """Change a list that was told, and the lists within it, in every way that a list can be changed."""
+    for inner in thing:
+        if isinstance(inner, list):
+            spoil(inner)
+    thing.reverse()
+    thing.append(None)
+    del thing[0]
+    thing.insert(0, [7])
+
+
+def tells_lists_of_its_own(case, call):
+    """Let the case fail unless what is told stays the same whatever is done to what was told."""
+    first, second = call(), call()
+    want = copy.deepcopy(first)
+    spoil(first)
+    case.assertEqual(second, want)
+    case.assertEqual(call(), want)
+    spoil(second)
+    case.assertEqual(call(), want)
 
 
 def refuses_no_nets(case, error, call):
