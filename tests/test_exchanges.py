@@ -5,30 +5,13 @@ import unittest
 
 from roadcall.errors import NoKin, NoNet, NoPlace, NoSign
 from roadcall.exchanges import exchanged, exchanges
-from things import CERNY, LONG, LOOP, LOOP3, NINE3, OTHERS, refuses_no_nets, some_nets
+from things import CERNY, LONG, LOOP, LOOP3, NINE3, OTHERS, fewest, orders, refuses_no_nets, some_nets
 
 NO_SIGNS = OTHERS + ["d", "A", "ab", "abc", "aa", ["a"], ("a",), 0, 1]
 
 
 def two_signs(net):
     return list(itertools.combinations("abc"[:len(net[0])], 2))
-
-
-def orders(row):
-    return sorted(set(itertools.permutations(row)))
-
-
-def fewest(row, goal):
-    """How few changes of two spots lead from a row to another one, by trying."""
-    known, many = {row}, 0
-    while goal not in known:
-        many += 1
-        for old in list(known):
-            for one, other in itertools.combinations(range(len(row)), 2):
-                new = list(old)
-                new[one], new[other] = new[other], new[one]
-                known.add(tuple(new))
-    return many
 
 
 class Exchanged(unittest.TestCase):

@@ -2,6 +2,7 @@
 
 import copy
 import itertools
+import math
 import random
 
 LONG = 10 ** 60 - 1
@@ -105,6 +106,31 @@ def broken_nets(seed=1, times=12):
     return [net for net in some_nets(seed, times) if not is_whole_net(net)]
 
 
+def beat_nets(seed=1, times=4):
+    """Nets that hang together and go round in sets, of up to nine places, with every beat that they can have."""
+    chance = random.Random(seed)
+    nets = []
+    for many in range(1, 10):
+        for beat in range(1, many + 1):
+            for width in (2, 3):
+                for _ in range(times):
+                    by = [[place for place in range(many) if place % beat == turn] for turn in range(beat)]
+                    nets.append(tuple(
+                        tuple(chance.choice(by[(place + 1) % beat]) for _ in range(width)) for place in range(many)))
+    return [net for net in nets if is_whole_net(net)]
+
+
+def all_on_rings(seed=1, times=3):
+    """Nets that hang together, in which each sign leads to each place from one: nothing is ever called together."""
+    chance = random.Random(seed)
+    nets = []
+    for many in range(2, 10):
+        for width in (2, 3):
+            for _ in range(times):
+                nets.append(tuple(zip(*[chance.sample(range(many), many) for _ in range(width)])))
+    return [net for net in nets if is_whole_net(net)]
+
+
 def words_up_to(net, length):
     """All words of at most so many signs, by length, then as Python orders texts."""
     signs = "abc"[:len(net[0])]
@@ -185,6 +211,49 @@ def plain_stable(net):
     far = call_table(net, 2)
     return [pair for pair in pairs_of(net)
             if all(frozenset(other) in far for other in pairs_reached(net, pair))]
+
+
+def orders(row):
+    """The orders in which the goals of a row can stand, each once, sorted."""
+    return sorted(set(itertools.permutations(row)))
+
+
+def fewest(row, goal):
+    """How few changes of two spots lead from a row to another one, by trying."""
+    known, many = {row}, 0
+    while goal not in known:
+        many += 1
+        for old in list(known):
+            for one, other in itertools.combinations(range(len(row)), 2):
+                new = list(old)
+                new[one], new[other] = new[other], new[one]
+                known.add(tuple(new))
+    return many
+
+
+def all_signings(net):
+    """Every signing of a net, sorted."""
+    return list(itertools.product(*[orders(row) for row in net]))
+
+
+def beat_of(net):
+    """The beat of a net that hangs together, by the lengths of words that lead 0 back to itself."""
+    beat, places = 0, {0}
+    for length in range(1, 3 * len(net) + 1):
+        places = {goal for place in places for goal in net[place]}
+        if 0 in places:
+            beat = math.gcd(beat, length)
+    return beat
+
+
+def least_left(net):
+    """How few places a word leaves, by all images of all places."""
+    found = {frozenset(range(len(net)))}
+    new = set(found)
+    while new:
+        new = {goal for places in new for goal in sign_images(net, places)} - found
+        found |= new
+    return min(len(places) for places in found)
 
 
 def spoil(thing):
