@@ -99,7 +99,7 @@ class Steps(unittest.TestCase):
                 self.check(other)
 
     def test_as_few_as_can_be_where_more_than_one_has_to_be_done(self):
-        # No net of at most nine places needs two; so which nets are good is made up here.
+        # A search of all nets of at most nine places found none that needs two; so which are good is made up here.
         for net in (PRISM, ((0, 1, 2), (1, 2, 0), (2, 2, 1)), ((1, 2, 0), (2, 0, 1), (0, 1, 2))):
             for goal in all_signings(net):
                 with as_if_good([goal]):
