@@ -1,6 +1,6 @@
 """Words for the net of classes, lifted to words for the net (point 18)."""
 
-from roadcall.nets import need_net, need_word
+from roadcall.nets import all_places, need_net, need_word
 from roadcall.pairs import call_of
 from roadcall.stable import stable_pairs
 from roadcall.words import image
@@ -11,7 +11,7 @@ def lifted(net, word):
     need_net(net)
     need_word(net, word)
     pairs = stable_pairs(net)
-    places = image(net, tuple(range(len(net))), word)
+    places = image(net, all_places(net), word)
     together = pairs_among(pairs, places)
     # Signs lead a class into one class, so what is called together stays so while others are.
     while together:

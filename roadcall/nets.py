@@ -38,6 +38,11 @@ def signs_of(net):
     return SIGNS[:len(net[0])]
 
 
+def all_places(net):
+    """The set of all places of a net."""
+    return tuple(range(len(net)))
+
+
 def is_place(net, thing):
     """Whether any thing is a place of a net."""
     return is_whole_below(thing, len(net))

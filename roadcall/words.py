@@ -1,7 +1,7 @@
 """What words do to sets and to all places (points 11 and 13)."""
 
 from roadcall.errors import NoSet
-from roadcall.nets import is_place, need_net, need_word
+from roadcall.nets import all_places, is_place, need_net, need_word
 from roadcall.ways import end_of, first_met
 
 
@@ -26,9 +26,14 @@ def image(net, places, word):
     return tuple(sorted({end_of(net, place, word) for place in places}))
 
 
+def sign_image(net, places, at):
+    """The image of a set by the sign with the number `at`."""
+    return tuple(sorted({net[place][at] for place in places}))
+
+
 def images_met(net, places):
     """A dict of all images of a set, each with the first word that leads there, in the order of these words."""
-    return first_met(places, len(net[0]), lambda met, at: tuple(sorted({net[place][at] for place in met})))
+    return first_met(places, len(net[0]), lambda met, at: sign_image(net, met, at))
 
 
 def first_call(net, places):
@@ -55,7 +60,7 @@ def comes_round(net, word):
     """A tuple (ahead, round): when the word, said again and again, comes round."""
     once = map_of(net, word)
     met = {}
-    said = tuple(range(len(net)))
+    said = all_places(net)
     while said not in met:
         met[said] = len(met)
         said = tuple(once[place] for place in said)

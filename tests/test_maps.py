@@ -6,7 +6,7 @@ import unittest
 from roadcall.errors import NoNet, TooMany
 from roadcall.maps import all_maps
 from roadcall.words import map_of
-from things import (CERNY, LOOP, LOOP3, NINE3, TURN, all_nets, refuses_no_nets, small_nets, some_nets,
+from things import (CERNY, LOOP, LOOP3, NINE3, TURN, all_nets, plain_maps, refuses_no_nets, small_nets, some_nets,
                     tells_lists_of_its_own, walk)
 
 # Nets by how many maps their words have.
@@ -40,12 +40,7 @@ def trial(net):
 
 def closure(net):
     """The set of all maps, without words; broken off far beyond five hundred."""
-    found = {tuple(range(len(net)))}
-    new = set(found)
-    while new and len(found) < 2000:
-        new = {tuple(net[goal][at] for goal in goals) for goals in new for at in range(len(net[0]))} - found
-        found |= new
-    return found
+    return plain_maps(net, 2000)
 
 
 class Maps(unittest.TestCase):

@@ -246,14 +246,29 @@ def beat_of(net):
     return beat
 
 
-def least_left(net):
-    """How few places a word leaves, by all images of all places."""
+def plain_images(net):
+    """All images of all places, as a set of sets."""
     found = {frozenset(range(len(net)))}
     new = set(found)
     while new:
         new = {goal for places in new for goal in sign_images(net, places)} - found
         found |= new
-    return min(len(places) for places in found)
+    return found
+
+
+def least_left(net):
+    """How few places a word leaves, by all images of all places."""
+    return min(len(places) for places in plain_images(net))
+
+
+def plain_maps(net, most=20000):
+    """All maps that words have, as a set; broken off beyond so many."""
+    found = {tuple(range(len(net)))}
+    new = set(found)
+    while new and len(found) <= most:
+        new = {tuple(net[goal][at] for goal in goals) for goals in new for at in range(len(net[0]))} - found
+        found |= new
+    return found
 
 
 def spoil(thing):
