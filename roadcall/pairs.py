@@ -2,12 +2,12 @@
 
 from roadcall.errors import NoPair
 from roadcall.nets import need_net
-from roadcall.words import first_call, images_met, is_set
+from roadcall.words import first_call, images_met, is_pair
 
 
 def need_pair(net, thing):
     """Refuse what is no pair of places of a net."""
-    if not is_set(net, thing) or len(thing) != 2:
+    if not is_pair(net, thing):
         raise NoPair("this is no pair of places of the net")
 
 

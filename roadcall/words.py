@@ -1,4 +1,4 @@
-"""What words do to sets and to all places (points 11 and 13)."""
+"""What sets and pairs are, and what words do to sets and to all places (points 11, 13 and 14)."""
 
 from roadcall.errors import NoSet
 from roadcall.nets import all_places, is_place, need_net, need_word
@@ -16,6 +16,11 @@ def need_set(net, thing):
     """Refuse what is no set of places of a net."""
     if not is_set(net, thing):
         raise NoSet("this is no set of places of the net")
+
+
+def is_pair(net, thing):
+    """Whether any thing is a pair of places of a net."""
+    return is_set(net, thing) and len(thing) == 2
 
 
 def image(net, places, word):
